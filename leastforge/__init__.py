@@ -1,0 +1,1 @@
+"""Leastforge: a house of making in which no rule is done without need."""
