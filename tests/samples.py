@@ -112,3 +112,31 @@ def chance_outcome(chance):
     if word in ("none", "shut"):
         return ("wrong", word, "a.b")
     return ("wrong", word, chance_worth(chance, 1) if word == "cried" else "")
+
+
+def chance_rule_and_founds(chance):
+    """A formed expression, and more founds than most of its runs look for."""
+    rule = chance_expression(chance, chance.choice([2, 3, 4, 5]), [])
+    return rule, [chance_outcome(chance) for _ in range(40)]
+
+
+def spots(thing, way=()):
+    """The ways to all that is within nested tuples, with the thing itself."""
+    yield way
+    if isinstance(thing, tuple):
+        for place, item in enumerate(thing):
+            yield from spots(item, way + (place,))
+
+
+def at(thing, way):
+    for place in way:
+        thing = thing[place]
+    return thing
+
+
+def changed(thing, way, change):
+    """Nested tuples with `change` done to what is at the end of the way."""
+    if not way:
+        return change(thing)
+    place = way[0]
+    return thing[:place] + (changed(thing[place], way[1:], change),) + thing[place + 1:]

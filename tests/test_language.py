@@ -22,6 +22,7 @@ METHODS = set("""append clear copy count endswith extend find get index insert i
     setdefault split splitlines startswith strip update upper values zfill bit_length""".split())
 WORDS = ("type typing typing_extensions enum Enum IntEnum StrEnum Flag IntFlag Generic Protocol ABC ABCMeta namedtuple "
          "NamedTuple TypedDict TYPE_CHECKING abstractmethod").split()
+NO_VALUES = "items keys values pop update append clear extend insert remove reverse setdefault sort args encode format".split()
 
 
 def source_files():
@@ -134,6 +135,47 @@ class Language(unittest.TestCase):
             for node in ast.walk(tree):
                 if isinstance(node, ast.Call) and isinstance(node.func, ast.Attribute):
                     self.assertIn(node.func.attr, METHODS | own, path)
+
+    def test_no_name_is_a_method_and_a_value(self):
+        methods = set()
+        values = set()
+        for path, text, tree in sources():
+            for node in ast.walk(tree):
+                if isinstance(node, ast.ClassDef):
+                    methods |= {part.name for part in node.body if isinstance(part, ast.FunctionDef)}
+                if isinstance(node, ast.Attribute) and isinstance(node.ctx, ast.Store):
+                    self.assertNotIn(node.attr, NO_VALUES, path)
+                    values.add(node.attr)
+        self.assertEqual(methods & values, set())
+        pythons = set(dir(str) + dir(int) + dir(list) + dir(dict) + dir(set) + dir(bytes)) - METHODS - {"add", "discard"}
+        self.assertEqual((methods - {"__init__"}) & pythons, set())
+
+    def test_no_local_is_called_like_a_class_or_an_import(self):
+        for path, text, tree in sources():
+            taken = {node.name for node in tree.body if isinstance(node, ast.ClassDef)}
+            for node in tree.body:
+                if isinstance(node, ast.ImportFrom):
+                    taken |= {alias.name for alias in node.names}
+            for node in ast.walk(tree):
+                if isinstance(node, ast.arg):
+                    self.assertNotIn(node.arg, taken, path)
+                if isinstance(node, ast.Name) and isinstance(node.ctx, ast.Store):
+                    self.assertNotIn(node.id, taken, path)
+
+    def test_each_name_once_at_the_top(self):
+        for path, text, tree in sources():
+            names = []
+            for node in tree.body:
+                if isinstance(node, (ast.FunctionDef, ast.ClassDef)):
+                    names.append(node.name)
+                elif isinstance(node, ast.ImportFrom):
+                    names.extend(alias.name for alias in node.names)
+                elif isinstance(node, ast.Assign):
+                    names.append(node.targets[0].id)
+                else:
+                    self.assertIs(node, tree.body[0], path)
+                    self.assertIsInstance(node.value, ast.Constant, path)
+            self.assertEqual(len(names), len(set(names)), path)
 
     def test_words_that_stand_nowhere(self):
         for path, text, tree in sources():
