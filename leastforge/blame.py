@@ -21,7 +21,8 @@ def blamed(paper):
     record = paper[2]
     if not is_wrong(record):
         return None
-    while len(record[1]) > 0 and is_wrong(record[1][-1]):
+    # What is wrong has a part that was gone through: those without parts are never wrong.
+    while is_wrong(record[1][-1]):
         expression = part_gone_last(expression, record)
         record = record[1][-1]
     if expression[0] != "look":

@@ -1,4 +1,6 @@
-"""Points 11 and 12 said once more, plainly; the tests of runs and of what is built on them draw from it."""
+"""Points 11, 12, 13 and 18 to 20 said once more, plainly; tests compare the program with them."""
+
+import re
 
 from leastforge.worths import is_worth, size
 
@@ -133,3 +135,51 @@ def plain_paper(rule, founds):
     if ended[0] == "look" or not within_bounds(ended[2]):
         return None
     return (rule, tuple(zip(ended[1], founds)), ended[2])
+
+
+def plain_may(house, looker, name):
+    if not re.fullmatch("[a-z0-9]{1,12}[.][a-z0-9]{1,12}", name):
+        return False
+    return looker is None or name in house.opened or name.split(".")[0] == looker.split(".")[0]
+
+
+def plain_found(house, looker, name, outcomes):
+    """Point 18: an outcome, or None where a rule has none as yet."""
+    if not plain_may(house, None, name):
+        return ("wrong", "none", name)
+    if not plain_may(house, looker, name):
+        return ("wrong", "shut", name)
+    if name in house.sources:
+        return ("made", house.sources[name])
+    return outcomes.get(name) if name in house.rules else ("wrong", "none", name)
+
+
+def plainly_made(house):
+    """Points 19 and 20: all that was come to is made again and again, until nothing is new."""
+    outcomes = {}
+    waits = {}
+    come = list(house.wishes)
+    before = None
+    while before != (len(come), len(outcomes)):
+        before = (len(come), len(outcomes))
+        for name in list(come):
+            if name in house.sources:
+                outcomes[name] = ("made", house.sources[name])
+            if name not in house.rules:
+                continue
+            founds = []
+            went = plainly_gone(house.rules[name], founds)
+            while went[0] == "look":
+                look = went[1][-1]
+                if look not in come and plain_may(house, name, look):
+                    come.append(look)
+                found = plain_found(house, name, look, outcomes)
+                if found is None:
+                    waits[name] = look
+                    break
+                founds.append(found)
+                went = plainly_gone(house.rules[name], founds)
+            if went[0] == "ended":
+                waits.pop(name, None)
+                outcomes[name] = went[2][0]
+    return outcomes, waits

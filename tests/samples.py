@@ -1,5 +1,8 @@
 """What several tests draw from: expressions of each form, and others made by chance from a fixed seed."""
 
+from leastforge.formtexts import read_rule
+from leastforge.house import House
+
 ONE = ("lit", 1)
 TWO = ("lit", 2)
 FEW = ("lit", (1, 2, 3))
@@ -140,3 +143,32 @@ def changed(thing, way, change):
         return change(thing)
     place = way[0]
     return thing[:place] + (changed(thing[place], way[1:], change),) + thing[place + 1:]
+
+
+# N is the place of a name.
+HOUSE_RULES = [
+    "1", "(cry 2)", '(look "N")', '(look "N")', '(+ (look "N") (look "N"))', '(list (look "N") (look "N"))', '(else (look "N") 5)',
+    '(else (look "N") (look "N"))', '(if (look "N") (look "N") (look "N"))', '(if (less 1 (look "N")) (look "N") 7)',
+    '(each x (lit ("N" "N" "N")) (look x))', '(each x (lit ("N" "N" "N")) (else (look x) 0))', '(each x (look "N") (look x))',
+    '(over x y (lit ("N" "N")) 0 (+ y (look x)))', '(look (look "N"))', '(else (look (look "N")) (look "N"))', '(cry (look "N"))',
+    '(count (look "N"))', '(let x (look "N") (list x x))', '(if 0 (look "N") (look "N"))', '(else 3 (look "N"))',
+]
+
+
+def chance_house(chance, most=12):
+    """A house of up to so many things in up to three rooms, some of them opened and wished, with others that are none."""
+    rooms = ["a", "b", "c9"][:chance.choice([1, 2, 3])]
+    names = [f"{chance.choice(rooms)}.t{number}" for number in range(chance.randrange(1, most + 1))]
+    others = names + names + names + [rooms[0] + ".none", "d.none", "no name", ""]
+    house = House()
+    for name in names:
+        if chance.random() < 0.25:
+            house.put(name, chance.choice([0, 1, 2, chance.choice(others), (chance.choice(others), chance.choice(others))]))
+        else:
+            pieces = chance.choice(HOUSE_RULES).split("N")
+            house.put_rule(name, read_rule(pieces[0] + "".join(chance.choice(others) + piece for piece in pieces[1:])))
+    for name in chance.sample(names, chance.randrange(len(names) + 1)) + ["d.none"]:
+        house.open_up(name)
+    for name in chance.sample(names + ["d.none"], chance.randrange(min(len(names), 6) + 1)):
+        house.wish(name)
+    return house
