@@ -32,9 +32,13 @@ def names_of(paper):
     return [look[0] for look in paper[1]]
 
 
-def paper_of(rule, founds):
-    ended = gone(rule, founds)
+# Of a run that ended, as gone tells it.
+def paper_of_run(rule, founds, ended):
     return (rule, tuple(zip(ended[1], founds)), ended[2])
+
+
+def paper_of(rule, founds):
+    return paper_of_run(rule, founds, gone(rule, founds))
 
 
 def is_look(thing):

@@ -3,30 +3,39 @@
 from leastforge.papers import is_right, just_so
 
 
-# The rule is compared first, as a run costs more.
-def fits(paper, rule):
-    if not isinstance(paper, tuple) or len(paper) != 3:
-        return False
-    return just_so(paper[0], rule) and is_right(paper)
+# What was laid doesn't change, so a run tells once for all whether it is right; copies of a shelf share that.
+class Laid:
+    def __init__(self, who, paper):
+        self.row = (who, paper)
+        self.right = None
+
+    # The rule is compared first, as a run costs more.
+    def fits(self, rule):
+        paper = self.row[1]
+        if not isinstance(paper, tuple) or len(paper) != 3 or not just_so(paper[0], rule):
+            return False
+        if self.right is None:
+            self.right = is_right(paper)
+        return self.right
 
 
 class Shelf:
     def __init__(self):
-        self.rows = []
+        self.laid = []
 
     def lay(self, who, paper):
-        self.rows.append((who, paper))
+        self.laid.append(Laid(who, paper))
 
     def lying(self):
-        return list(self.rows)
+        return [one.row for one in self.laid]
 
     def fitting(self, rule):
-        return [row for row in self.rows if fits(row[1], rule)]
+        return [one.row for one in self.laid if one.fits(rule)]
 
     def has(self, paper):
-        return any([just_so(row[1], paper) for row in self.rows])
+        return any([just_so(one.row[1], paper) for one in self.laid])
 
     def copy(self):
         other = Shelf()
-        other.rows = list(self.rows)
+        other.laid = list(self.laid)
         return other

@@ -1,7 +1,8 @@
-"""Points 11, 12, 13 and 18 to 20 said once more, plainly; tests compare the program with them."""
+"""Points 11, 12, 13, 18 to 20 and 24 to 29 said once more, plainly; tests compare the program with them."""
 
 import re
 
+from leastforge.papers import is_right
 from leastforge.worths import is_worth, size
 
 KIND = ("wrong", "kind", "")
@@ -183,3 +184,94 @@ def plainly_made(house):
                 waits.pop(name, None)
                 outcomes[name] = went[2][0]
     return outcomes, waits
+
+
+def plainly_found(paper):
+    return [found for name, found in paper[1]]
+
+
+def plainly_matched(papers, founds):
+    """Point 24; what is written alike is the same just so."""
+    for number, paper in enumerate(papers):
+        if repr(plainly_found(paper)) == repr(founds):
+            return ("whole", number)
+    for paper in papers:
+        if repr(plainly_found(paper)[:len(founds)]) == repr(founds):
+            return ("look", paper[1][len(founds)][0])
+    return ("none",)
+
+
+class PlainMaking:
+    """Points 25 to 29; book a dict of papers, shelf a list of rows, tasks dicts."""
+
+    def __init__(self, house, book, shelf):
+        self.house, self.book, self.shelf = house.copy(), dict(book), list(shelf)
+        self.tasks = {}
+        self.steps = 0
+        self.things = {name: ("made", self.house.sources[name]) for name in self.house.wishes if name in self.house.sources}
+        for name in self.house.wishes:
+            self.begin(name)
+
+    def begin(self, name):
+        if name not in self.house.rules or name in self.tasks:
+            return
+        rule = self.house.rules[name]
+        papers = [row for row in self.shelf if is_right(row[1]) and repr(row[1][0]) == repr(rule)]
+        if name in self.book and self.book[name][0] == rule:
+            papers.insert(0, (None, self.book[name]))
+        self.tasks[name] = {"needs": None, "founds": [], "paper": None, "how": None, "papers": papers}
+
+    def found(self, name):
+        return plain_found(self.house, name, self.tasks[name]["needs"], self.things)
+
+    def ready(self):
+        return [name for name, task in self.tasks.items()
+                if task["paper"] is None and (task["needs"] is None or self.found(name) is not None)]
+
+    def waiting(self):
+        return {name: task["needs"] for name, task in self.tasks.items() if task["paper"] is None and name not in self.ready()}
+
+    def why(self, name, founds):
+        if name not in self.book:
+            return ("new",)
+        if self.book[name][0] != self.house.rules[name]:
+            return ("rule",)
+        for number, (look, found) in enumerate(self.book[name][1]):
+            if found != founds[number]:
+                return ("look", number, look, found, founds[number])
+
+    def step(self, pick):
+        names = self.ready()
+        name = names[pick % len(names)]
+        task = self.tasks[name]
+        founds = task["founds"]
+        self.steps += 1
+        if task["needs"] is not None:
+            founds.append(self.found(name))
+            if task["needs"] in self.house.sources and plain_may(self.house, name, task["needs"]):
+                self.things[task["needs"]] = founds[-1]
+            task["needs"] = None
+        answer = plainly_matched([row[1] for row in task["papers"]], founds)
+        if answer[0] == "whole":
+            who, task["paper"] = task["papers"][answer[1]]
+            task["how"] = ("left",) if who is None else ("taken", who)
+        elif answer[0] == "look":
+            task["needs"] = answer[1]
+        else:
+            went = plainly_gone(self.house.rules[name], founds)
+            if went[0] == "look":
+                task["needs"] = went[1][-1]
+            else:
+                task["paper"] = (self.house.rules[name], tuple(zip(went[1], founds)), went[2])
+                task["how"] = ("done", self.why(name, founds))
+        if task["paper"] is not None:
+            self.things[name] = task["paper"][2][0]
+        elif plain_may(self.house, name, task["needs"]):
+            self.begin(task["needs"])
+        return name
+
+    def go(self, picks, most=None):
+        names = []
+        while self.ready() and (most is None or len(names) < most):
+            names.append(self.step(picks[len(names)] if len(names) < len(picks) else 0))
+        return names

@@ -2,6 +2,9 @@
 
 from leastforge.formtexts import read_rule
 from leastforge.house import House
+from leastforge.papers import paper_of
+from leastforge.shelf import Shelf
+from tests.reference import plain_found, plain_paper, plainly_gone, plainly_made
 
 ONE = ("lit", 1)
 TWO = ("lit", 2)
@@ -155,6 +158,37 @@ HOUSE_RULES = [
 ]
 
 
+def house_of(sources=None, rules=None, opened=(), wishes=()):
+    """A house of sources, and of rules by their texts."""
+    house = House()
+    for name, worth in (sources or {}).items():
+        house.put(name, worth)
+    for name, text in (rules or {}).items():
+        house.put_rule(name, read_rule(text))
+    for name in opened:
+        house.open_up(name)
+    for name in wishes:
+        house.wish(name)
+    return house
+
+
+def shelf_of(rows):
+    shelf = Shelf()
+    for who, paper in rows:
+        shelf.lay(who, paper)
+    return shelf
+
+
+def paper(text, *founds):
+    """The paper of the rule that is written so, with these founds."""
+    return paper_of(read_rule(text), list(founds))
+
+
+def chance_rule(chance, names):
+    pieces = chance.choice(HOUSE_RULES).split("N")
+    return read_rule(pieces[0] + "".join(chance.choice(names) + piece for piece in pieces[1:]))
+
+
 def chance_house(chance, most=12):
     """A house of up to so many things in up to three rooms, some of them opened and wished, with others that are none."""
     rooms = ["a", "b", "c9"][:chance.choice([1, 2, 3])]
@@ -165,10 +199,60 @@ def chance_house(chance, most=12):
         if chance.random() < 0.25:
             house.put(name, chance.choice([0, 1, 2, chance.choice(others), (chance.choice(others), chance.choice(others))]))
         else:
-            pieces = chance.choice(HOUSE_RULES).split("N")
-            house.put_rule(name, read_rule(pieces[0] + "".join(chance.choice(others) + piece for piece in pieces[1:])))
+            house.put_rule(name, chance_rule(chance, others))
     for name in chance.sample(names, chance.randrange(len(names) + 1)) + ["d.none"]:
         house.open_up(name)
     for name in chance.sample(names + ["d.none"], chance.randrange(min(len(names), 6) + 1)):
         house.wish(name)
     return house
+
+
+def chance_paper(chance, house):
+    """A right paper of some rule of the house, with founds of which some may be unlike those that are there; or None."""
+    if not house.rules:
+        return None
+    name = chance.choice(sorted(house.rules))
+    outcomes = plainly_made(house)[0]
+    founds = []
+    went = plainly_gone(house.rules[name], founds)
+    while went[0] == "look" and len(founds) < 40:
+        found = plain_found(house, name, went[1][-1], outcomes)
+        if found is None or chance.random() < 0.3:
+            found = chance.choice([chance_outcome(chance), ("made", chance.randrange(3)), ("made", "a.t1")])
+        founds.append(found)
+        went = plainly_gone(house.rules[name], founds)
+    return plain_paper(house.rules[name], founds)
+
+
+def chance_lie(chance, right):
+    """Something that isn't this right paper, though it may be near to it."""
+    if right is None or chance.random() < 0.2:
+        return chance.choice([None, True, 0, "paper", (), (None, (), ()), (("lit", 1), (), (("made", True), ())), ((), (), ())])
+    way = chance.choice(list(spots(right)))
+    other = chance.choice([1, True, 0, "a.t2", "", None, (), ("made", 7), ("wrong", "kind", ""), ("lit", 7), ((), ())])
+    return changed(right, way, lambda inner: other)
+
+
+def chance_laid(chance, house):
+    right = chance_paper(chance, house)
+    return chance_lie(chance, right) if right is None or chance.random() < 0.5 else right
+
+
+POOL = [f"{room}.t{number}" for room in ("a", "b") for number in range(5)]
+
+
+def chance_deed(chance, house):
+    """Something that hands may do to a house, whose things are all of the pool."""
+    name = chance.choice(POOL)
+    others = POOL + POOL + ["a.none", "d.none", "no name"]
+    deed = chance.randrange(12)
+    if deed < 3:
+        house.put(name, chance.choice([0, 1, 2, chance.choice(others), (chance.choice(others), chance.choice(others))]))
+    elif deed < 7:
+        house.put_rule(name, chance_rule(chance, others))
+    elif deed == 7 and (name in house.sources or name in house.rules):
+        house.drop(name)
+    elif deed in (8, 9):
+        house.wish(name)
+    else:
+        chance.choice([house.open_up, house.open_up, house.shut, house.let_go])(name)

@@ -7,20 +7,7 @@ from leastforge.house import House
 from leastforge.plain import plain
 from leastforge.rings import told
 from tests.reference import KIND, NOUGHT, plainly_made
-from tests.samples import chance_house
-
-
-def house_of(sources=None, rules=None, opened=(), wishes=()):
-    house = House()
-    for name, worth in (sources or {}).items():
-        house.put(name, worth)
-    for name, text in (rules or {}).items():
-        house.put_rule(name, read_rule(text))
-    for name in opened:
-        house.open_up(name)
-    for name in wishes:
-        house.wish(name)
-    return house
+from tests.samples import chance_house, house_of
 
 
 def fields(house):

@@ -6,7 +6,7 @@ from leastforge.formtexts import read_rule
 from leastforge.papers import is_right, paper_of
 from leastforge.shelf import Shelf
 from tests.reference import KIND, plain_paper
-from tests.samples import at, changed, chance_expression, chance_outcome, spots
+from tests.samples import at, changed, chance_expression, chance_outcome, shelf_of, spots
 
 LIT = ("lit", 1)
 LOOK = read_rule('(look "a.b")')
@@ -19,13 +19,6 @@ DOUBLE = paper_of(TWICE, [("made", 0), ("made", (1, 0))])
 # What may be laid, though it is no paper.
 OTHERS = [0, 1, -1, 10 ** 199, "", "paper", "a" * 2000, None, True, False, (), (None,), (True, 1), (1, 2, 3), ((), (), ()), ONE[:2],
           ONE + (None,), (ONE,), (LIT, (), None), (LIT, None, ONE[2]), (None, (), ONE[2]), (0,) * 39000]
-
-
-def shelf_of(rows):
-    shelf = Shelf()
-    for who, paper in rows:
-        shelf.lay(who, paper)
-    return shelf
 
 
 class Laying(unittest.TestCase):
