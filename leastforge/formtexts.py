@@ -53,8 +53,12 @@ def expression_of_tree(tree):
     return ("lit", number_of(tree[1]))
 
 
-def read_rule(text):
-    expression = expression_of_tree(only_tree(text))
+def rule_of_tree(tree):
+    expression = expression_of_tree(tree)
     if not is_rule(expression):
         raise NoText("what is written is no good expression")
     return expression
+
+
+def read_rule(text):
+    return rule_of_tree(only_tree(text))

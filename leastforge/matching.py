@@ -1,15 +1,11 @@
 """Matching: which of some right papers with one rule has just these founds, or where such a one looks next."""
 
-from leastforge.papers import just_so
-
-
-def finds_so(paper, place, found):
-    return place < len(paper[1]) and just_so(paper[1][place][1], found)
+from leastforge.papers import founds_of, just_so
 
 
 def first_otherwise(paper, founds):
-    for place in range(min(len(paper[1]), len(founds))):
-        if not finds_so(paper, place, founds[place]):
+    for place, pair in enumerate(zip(founds_of(paper), founds)):
+        if not just_so(pair[0], pair[1]):
             return place
     return None
 

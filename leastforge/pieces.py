@@ -8,8 +8,8 @@ from leastforge.errors import NoText
 BETWEEN = " \n"
 WORD_ENDS = ' \n()"'
 
-# Nothing good nests so deep; the bound keeps those that go down a tree from going too deep.
-MOST_BRACKETS = 60
+# Far beyond what is handed in; the bound keeps those that go down a tree from going too deep.
+MOST_BRACKETS = 100
 
 
 def word_end(text, start):

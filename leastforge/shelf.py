@@ -9,10 +9,10 @@ class Laid:
         self.row = (who, paper)
         self.right = None
 
-    # The rule is compared first, as a run costs more.
+    # The rule is compared first, as a run costs more; whether it is one at all is asked with the rest.
     def fits(self, rule):
         paper = self.row[1]
-        if not isinstance(paper, tuple) or len(paper) != 3 or not just_so(paper[0], rule):
+        if not isinstance(paper, tuple) or len(paper) != 3 or paper[0] != rule:
             return False
         if self.right is None:
             self.right = is_right(paper)

@@ -1,8 +1,12 @@
 """Tasks: how one rule of a making comes to its paper, step by step."""
 
-from leastforge.matching import finds_so, first_otherwise, matched_beginning
+from leastforge.matching import first_otherwise, matched_beginning
 from leastforge.papers import just_so, paper_of_run
 from leastforge.runs import gone
+
+
+def found_at(paper, place):
+    return paper[1][place][1]
 
 
 class Task:
@@ -33,9 +37,10 @@ class Task:
         else:
             self.run()
 
+    # All these papers look on: with one that doesn't, the task would have ended.
     def take(self, found):
         place = len(self.founds)
-        self.ends = [end for end in self.ends if finds_so(end[1], place, found)]
+        self.ends = [end for end in self.ends if found_at(end[1], place) == found]
         self.founds.append(found)
         self.needs = None
 

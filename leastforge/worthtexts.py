@@ -41,6 +41,12 @@ def worth_of_tree(tree):
     return number_of(tree[1])
 
 
+def text_of_tree(tree):
+    if tree[0] != "text" or not is_worth(tree[1]):
+        raise NoText("a worth's text is to stand here")
+    return tree[1]
+
+
 def read_worth(text):
     worth = worth_of_tree(only_tree(text))
     if not is_worth(worth):

@@ -1,9 +1,12 @@
-"""Points 11, 12, 13, 18 to 20 and 24 to 29 said once more, plainly; tests compare the program with them."""
+"""Points 11, 12, 13, 18 to 20, 24 to 29 and 35 said once more, plainly; tests compare the program with them."""
 
 import re
 
+from leastforge.errors import NoText
+from leastforge.formtexts import read_rule
 from leastforge.papers import is_right
 from leastforge.worths import is_worth, size
+from leastforge.worthtexts import read_worth
 
 KIND = ("wrong", "kind", "")
 GREAT = ("wrong", "great", "")
@@ -275,3 +278,58 @@ class PlainMaking:
         while self.ready() and (most is None or len(names) < most):
             names.append(self.step(picks[len(names)] if len(names) < len(picks) else 0))
         return names
+
+
+def plain_tree(text):
+    """Nested lists of the pieces of a text, texts with their quotes; None where brackets or quotes are not in pairs."""
+    if text.count('"') % 2:
+        return None
+    levels = [[]]
+    for piece in re.findall(r'"[^"]*"|[()]|[^ \n()"]+', text):
+        if piece == "(":
+            levels.append([])
+        elif piece == ")":
+            if len(levels) == 1:
+                return None
+            inner = levels.pop()
+            levels[-1].append(inner)
+        else:
+            levels[-1].append(piece)
+    return levels[0] if len(levels) == 1 else None
+
+
+def text_again(tree):
+    return tree if isinstance(tree, str) else "(" + " ".join(text_again(inner) for inner in tree) + ")"
+
+
+def plainly_read_outcome(tree):
+    if len(tree) == 2 and tree[0] == "made":
+        return ("made", read_worth(text_again(tree[1])))
+    word, detail = (tree[1], read_worth(text_again(tree[2]))) if len(tree) == 3 and tree[0] == "wrong" else (None, None)
+    if (word in ("kind", "great", "nought", "place") and detail == "" or word == "cried"
+            or word in ("none", "shut") and isinstance(detail, str)):
+        return ("wrong", word, detail)
+    raise NoText()
+
+
+def plainly_read_record(tree):
+    if not isinstance(tree, list) or not tree or not isinstance(tree[0], list):
+        raise NoText()
+    return (plainly_read_outcome(tree[0]), tuple(plainly_read_record(inner) for inner in tree[1:]))
+
+
+def plainly_read_paper(tree):
+    """Point 35 said once more, of a tree of pieces, by the readers of worths and rules; refused as there."""
+    if not isinstance(tree, list) or len(tree) != 4 or tree[0] != "paper":
+        raise NoText()
+    if not isinstance(tree[2], list) or tree[2][:1] != ["looks"]:
+        raise NoText()
+    looks = []
+    for look in tree[2][1:]:
+        if not isinstance(look, list) or len(look) != 2 or not isinstance(look[0], str) or not isinstance(look[1], list):
+            raise NoText()
+        name = read_worth(look[0])
+        if not isinstance(name, str):
+            raise NoText()
+        looks.append((name, plainly_read_outcome(look[1])))
+    return (read_rule(text_again(tree[1])), tuple(looks), plainly_read_record(tree[3]))

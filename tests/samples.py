@@ -1,5 +1,6 @@
 """What several tests draw from: expressions of each form, and others made by chance from a fixed seed."""
 
+from leastforge.book import Book
 from leastforge.formtexts import read_rule
 from leastforge.house import House
 from leastforge.papers import paper_of
@@ -177,6 +178,13 @@ def shelf_of(rows):
     for who, paper in rows:
         shelf.lay(who, paper)
     return shelf
+
+
+def book_of(papers):
+    book = Book()
+    for name, right in papers.items():
+        book.keep(name, right)
+    return book
 
 
 def paper(text, *founds):

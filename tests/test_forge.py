@@ -126,6 +126,12 @@ class Makings(unittest.TestCase):
         self.assertEqual(forge.shelf.lying(), [("abe", right)])
         self.assertEqual(forge.book.papers, {"a.x": right, "a.y": right})
 
+    def test_what_was_left_is_not_laid(self):
+        forge = chain_forge()
+        forge.book.keep("a.q", Q5)
+        self.assertEqual(forge.make().how, {"a.q": ("left",), "a.r": ("done", ("new",))})
+        self.assertEqual(forge.shelf.lying(), [("abe", R50)])
+
     def test_what_is_near_is_no_hindrance(self):
         lie = (("lit", 1), (), (("made", True), ()))
         shelf = shelf_of([("liar", lie), ("liar", ("abe", paper("1"))), ("liar", None)])

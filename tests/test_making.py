@@ -2,7 +2,6 @@ import copy
 import random
 import unittest
 
-from leastforge.book import Book
 from leastforge.errors import NoStep
 from leastforge.formtexts import read_rule
 from leastforge.house import House
@@ -12,16 +11,9 @@ from leastforge.plain import plain
 from leastforge.shelf import Shelf
 from leastforge.tasks import Task
 from tests.reference import KIND, PlainMaking
-from tests.samples import chance_house, chance_laid, chance_paper, house_of, paper, shelf_of
+from tests.samples import book_of, chance_house, chance_laid, chance_paper, house_of, paper, shelf_of
 
 CHAIN = {"a.r": '(+ (look "a.q") 1)', "a.q": '(* (look "a.s") 10)'}
-
-
-def book_of(papers):
-    book = Book()
-    for name, right in papers.items():
-        book.keep(name, right)
-    return book
 
 
 def making_of(house, papers=None, rows=()):
@@ -307,6 +299,23 @@ class OwnCopies(unittest.TestCase):
             self.assertEqual(making.told_things(), {"a.s": ("made", 5), "a.q": ("made", 50), "a.r": ("made", 51)})
             self.assertEqual({name: task.how for name, task in making.tasks.items()}, {"a.r": ("taken", "abe"), "a.q": ("left",)})
 
+    def test_what_is_laid_and_kept_ahead_of_a_later_task(self):
+        house = house_of({"a.s": 5}, CHAIN, [], ["a.r"])
+        for steps in range(3):
+            book, shelf = book_of({}), shelf_of([])
+            making = Making(house, book, shelf)
+            making.go(None, steps)
+            shelf.lay("zoe", paper(CHAIN["a.q"], ("made", 5)))
+            shelf.lay("zoe", paper(CHAIN["a.r"], ("made", 50)))
+            making.go()
+            self.assertEqual({name: task.how for name, task in making.tasks.items()},
+                             {"a.r": ("done", ("new",)), "a.q": ("done", ("new",))})
+            making = Making(house, book, Shelf())
+            making.go(None, steps)
+            book.keep("a.q", paper(CHAIN["a.q"], ("made", 5)))
+            making.go()
+            self.assertEqual(making.tasks["a.q"].how, ("done", ("new",)))
+
     def test_it_changes_nothing_of_them(self):
         for seed in range(100):
             chance = random.Random(seed)
@@ -410,6 +419,22 @@ class Whole(unittest.TestCase):
                 most = chance.choice([0, 1, 2, 5, None])
                 self.assertEqual(making.go(picks, most), len(other.go(picks, most)))
                 self.stands_as(making, other)
+
+    def test_a_making_of_three_thousand_steps(self):
+        names = " ".join(['"a.s"'] * 9)
+        text = f"(each x (lit ({names})) (list " + "(look x) " * 8 + '))'
+        house = house_of({"a.s": 5}, {f"a.r{n}": text for n in range(39)}, [], [f"a.r{n}" for n in range(20)])
+        for n in range(19):
+            house.put_rule(f"a.r{n}", read_rule(f'(list (look "a.r{n + 20}") {text})'))
+        making = making_of(house)
+        picks = [(n * n) % 41 for n in range(400)]
+        self.assertEqual(making.go(picks, 1500), 1500)
+        self.assertEqual(making.go(picks), 19 * 74 + 20 * 73 - 1500)
+        self.assertEqual((making.told_things(), making.waiting()), plain(house))
+        made = {name: task.paper for name, task in making.tasks.items()}
+        again = making_of(house, made)
+        again.go()
+        self.assertEqual([task.how for task in again.tasks.values()], [("left",)] * 39)
 
     def test_the_same_again(self):
         for seed in range(60):

@@ -63,6 +63,11 @@ class Matched(unittest.TestCase):
         cried = paper("(cry 1)")
         self.tells([cried, cried], [], ("whole", 0))
 
+    def test_founds_that_are_longer(self):
+        self.tells([PLAIN], [ONE], ("none",))
+        self.tells([SHORT, YES], [KIND, ONE], ("none",))
+        self.tells([YES], [ONE, TWO, ONE], ("none",))
+
     def test_one_name_with_unlike_founds(self):
         text = '(list (look "a.b") (look "a.b") (look "a.b"))'
         papers = [paper(text, ONE, ONE, TWO), paper(text, ONE, TWO, ONE), paper(text, TWO, TWO, TWO), paper(text, ONE, KIND)]
